@@ -1,0 +1,1 @@
+"""Focuswalk: parts on a sheet within parts, walked by keys."""
