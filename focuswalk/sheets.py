@@ -7,6 +7,9 @@ LONGEST_NAME = 8
 
 # Where these stand in the tuple of a part.
 NAME = 0
+BOX = 1
+WORD = 2
+RANK = 3
 HEAD = 4
 PARTS = 5
 
@@ -42,14 +45,7 @@ def place_of(sheet, name):
 
 def around(sheet, name):
     """Tell the names of the parts around a part, from the outermost one inwards."""
-    place = place_of(sheet, name)
-    names = []
-    parts = sheet
-    for number in place[:-1]:
-        outer = parts[number]
-        names.append(outer[NAME])
-        parts = outer[PARTS]
-    return names
+    return [part[NAME] for part in chain_of(sheet, name)[:-1]]
 
 
 def level_of(sheet, name):
@@ -64,6 +60,16 @@ def inner_of(sheet, name):
     """Tell the names of the parts directly within a part, of the outer parts for None."""
     parts = sheet if name is None else part_of(sheet, name)[PARTS]
     return [part[NAME] for part in parts]
+
+
+def chain_of(sheet, name):
+    """Tell the tuples of the parts around a part, from the outermost one inwards, then its own."""
+    chain = []
+    parts = sheet
+    for number in place_of(sheet, name):
+        chain.append(parts[number])
+        parts = parts[number][PARTS]
+    return chain
 
 
 def parts_of(sheet):

@@ -1,6 +1,7 @@
 """Sheets and parts for the tests."""
 
 import itertools
+import random
 import string
 
 GREATEST = 10 ** 60 - 1
@@ -65,3 +66,65 @@ DEEP = (
 
 DEEP_NAMES = ["a", "ab", "abc", "abcd", "abcde", "abcdef", "b", "ac", "abcdefgh",
               "c", "ca", "cb", "cba", "cc"]
+
+
+def chance_box(chance, room):
+    """A box of small numbers, so that many touch, have room in common or lie as near."""
+    return (chance.randint(-room, room), chance.randint(-room, room),
+            chance.randint(1, 4), chance.randint(1, 4))
+
+
+def chance_nest(chance, names):
+    """Nested lists [name, lists], up to 5 deep, each name at a place by chance."""
+    outer = []
+    rooms = [(outer, 1)]
+    for name in names:
+        room, deep = chance.choice(rooms)
+        inner = []
+        room.insert(chance.randint(0, len(room)), [name, inner])
+        if deep < 5:
+            rooms.append((inner, deep + 1))
+    return outer
+
+
+def chance_sheet(chance, many, free=0.7, room=6, heads=0.3):
+    """A sheet that fits of so many parts, with so great a share of free ones and of heads."""
+    names = many_names(many)
+    chance.shuffle(names)
+    # Heads are parts ahead, in this order or in the one that has all levels back to front.
+    sign = chance.choice([1, -1])
+
+    def parts_from(nest, outer, known):
+        parts = []
+        for name, inner in nest[::sign]:
+            fitting = [other for other in known if other not in outer]
+            head = chance.choice(fitting) if fitting and chance.random() < heads else None
+            known.append(name)
+            word = "free" if chance.random() < free else chance.choice(["shut", "hidden"])
+            parts.append(part(name, *parts_from(inner, outer + [name], known),
+                              box=chance_box(chance, room), word=word,
+                              rank=chance.choice([0, 0, 1, 2, GREATEST]), head=head))
+        return tuple(parts[::sign])
+
+    return parts_from(chance_nest(chance, names), [], [])
+
+
+def chance_sheets(seed, turns, most, **shares):
+    """So many sheets by chance, of 0 to most parts."""
+    chance = random.Random(seed)
+    return [chance_sheet(chance, chance.randint(0, most), **shares) for turn in range(turns)]
+
+
+def with_chains(parts, outer=()):
+    """Lists of parts, by the sheet's order: all around a part from the outermost one, then it."""
+    chains = []
+    for one in parts:
+        chains.append([*outer, one])
+        chains += with_chains(one[5], (*outer, one))
+    return chains
+
+
+def with_words(sheet, words):
+    """The sheet, each part that stands in the dict with this word."""
+    return tuple((name, box, words.get(name, word), rank, head, with_words(parts, words))
+                 for name, box, word, rank, head, parts in sheet)

@@ -28,6 +28,7 @@ BARRED_NODES = (ast.Global, ast.AsyncFunctionDef, ast.AsyncFor, ast.AsyncWith, a
 BARRED_NAMES = set("""
 register mro elements open input version_info with_traceback add_note
 """.split())
+TAKES_A_GENERATOR = ("list", "tuple", "dict", "sorted", "sum", "min", "max", "any", "all")
 DOUBLE_METHODS = {"__init__", "__eq__", "__repr__", "__str__", "__len__", "__enter__", "__exit__"}
 
 
@@ -107,6 +108,19 @@ class Form(unittest.TestCase):
                 if isinstance(sign, (ast.Is, ast.IsNot)):
                     self.assertIsInstance(other, ast.Constant, file)
                     self.assertIn(other.value, (None, True, False), file)
+
+    def test_powers_have_a_written_exponent(self):
+        for file, node in nodes(ast.BinOp):
+            if isinstance(node.op, ast.Pow):
+                self.assertIsInstance(node.right, ast.Constant, f"{file} {node.lineno}")
+                self.assertIn(node.right.value, range(65), f"{file} {node.lineno}")
+
+    def test_generator_expressions_stand_directly_in_a_call(self):
+        calls = [node for file, node in nodes(ast.Call)]
+        good = {id(node.args[0]) for node in calls
+                if node.args and getattr(node.func, "id", "") in TAKES_A_GENERATOR}
+        for file, node in nodes(ast.GeneratorExp):
+            self.assertIn(id(node), good, f"{file} {node.lineno}")
 
     def test_strings(self):
         for name in TREES:
