@@ -50,10 +50,7 @@ def around(sheet, name):
 
 def level_of(sheet, name):
     """Tell the names of the level of a part, by the sheet's order."""
-    outer_names = around(sheet, name)
-    if not outer_names:
-        return inner_of(sheet, None)
-    return inner_of(sheet, outer_names[-1])
+    return [part[NAME] for part in level_parts(sheet, name)]
 
 
 def inner_of(sheet, name):
@@ -70,6 +67,12 @@ def chain_of(sheet, name):
         chain.append(parts[number])
         parts = parts[number][PARTS]
     return chain
+
+
+def level_parts(sheet, name):
+    """Tell the tuples of the level of a part, by the sheet's order."""
+    chain = chain_of(sheet, name)
+    return sheet if len(chain) == 1 else chain[-2][PARTS]
 
 
 def parts_of(sheet):

@@ -6,25 +6,11 @@ import unittest
 from focuswalk.boxes import lies
 from focuswalk.errors import NoKey
 from tests.asking import Asking
+from tests.plain import plain_lies
 from tests.samples import GREATEST
 
 BOX = (10, 20, 4, 6)
 SIDES = ("up", "down", "left", "right")
-
-
-def plain_lies(box, other, way):
-    """The same told by counting unit fields."""
-    along, across = (1, 0) if way in ("up", "down") else (0, 1)
-    here, there = [[set(range(one[at], one[at] + one[at + 2])) for at in (along, across)]
-                   for one in (box, other)]
-    first, second = (here[0], there[0]) if way in ("down", "right") else (there[0], here[0])
-    if max(first) >= min(second):
-        return None
-    gap = len(range(max(first) + 1, min(second)))
-    if here[1] & there[1]:
-        return (0, gap, 0)
-    lower, upper = sorted([here[1], there[1]], key=min)
-    return (1, gap, len(range(max(lower) + 1, min(upper))))
 
 
 class EachWay(Asking):

@@ -1,0 +1,70 @@
+"""The promises told once more in another way, for the tests to compare with."""
+
+from tests.samples import with_chains
+
+KEYS = ("on", "back", "up", "down", "left", "right", "into", "out")
+SIDES = KEYS[2:6]
+WAYS = KEYS[2:]
+
+
+def plain_lies(box, other, way):
+    """The same told by counting unit fields."""
+    along, across = (1, 0) if way in ("up", "down") else (0, 1)
+    here, there = [[set(range(one[at], one[at] + one[at + 2])) for at in (along, across)]
+                   for one in (box, other)]
+    first, second = (here[0], there[0]) if way in ("down", "right") else (there[0], here[0])
+    if max(first) >= min(second):
+        return None
+    gap = len(range(max(first) + 1, min(second)))
+    if here[1] & there[1]:
+        return (0, gap, 0)
+    lower, upper = sorted([here[1], there[1]], key=min)
+    return (1, gap, len(range(max(lower) + 1, min(upper))))
+
+
+def plain_open(sheet):
+    """A dict of the open parts, by the sheet's order: of each the chain of parts around it and it."""
+    return {chain[-1][0]: chain for chain in with_chains(sheet)
+            if all(one[2] == "free" for one in chain)}
+
+
+def plain_nearest(chains, name, way):
+    """Where one of the four leads, by sorting all that lies there."""
+    chain = chains[name]
+    rows = []
+    for at, (other, its_chain) in enumerate(chains.items()):
+        if other != name and its_chain[:-1] == chain[:-1]:
+            near = plain_lies(chain[-1][1], its_chain[-1][1], way)
+            if near is not None:
+                rows.append((*near, at, other))
+    return sorted(rows)[0][-1] if rows else None
+
+
+def plain_goes(sheet):
+    """A dict of the open parts: of each a dict of the eight keys with where they lead."""
+    chains = plain_open(sheet)
+    ranks = {name: chain[-1][3] for name, chain in chains.items()}
+    order = sorted([name for name in chains if ranks[name]], key=ranks.get)
+    order += [name for name in chains if not ranks[name]]
+    told = {}
+    for name, chain in chains.items():
+        at = order.index(name)
+        inner = [one[0] for one in chain[-1][5] if one[0] in chains]
+        leads = {"on": (order + order)[at + 1], "back": order[at - 1]}
+        leads |= {way: plain_nearest(chains, name, way) for way in SIDES}
+        leads["into"] = inner[0] if inner else None
+        leads["out"] = chain[-2][0] if len(chain) > 1 else None
+        told[name] = leads
+    return told
+
+
+def plain_far(leads, keys):
+    """How many of these keys it takes from part to part: a dict of pairs, by a growing bound."""
+    far = {(name, name): 0 for name in leads}
+    for many in range(len(leads)):
+        for one, other in [pair for pair in far if far[pair] == many]:
+            for key in keys:
+                to = leads[other][key]
+                if to is not None:
+                    far.setdefault((one, to), many + 1)
+    return far
