@@ -68,3 +68,35 @@ def plain_far(leads, keys):
                 if to is not None:
                     far.setdefault((one, to), many + 1)
     return far
+
+
+def thawed(parts):
+    """The parts as lists that may be changed."""
+    return [[*one[:5], thawed(one[5])] for one in parts]
+
+
+def frozen(rows):
+    """The tuple of parts that such lists tell."""
+    return tuple((*row[:5], frozen(row[5])) for row in rows)
+
+
+def plain_done(sheet, deed):
+    """What comes of a deed that can be done, by changing lists in place."""
+    kind, name, *given = deed
+    outer = thawed(sheet)
+    levels = [outer]
+    for level in levels:
+        levels.extend(row[5] for row in level)
+    rows = {row[0]: (level, row) for level in levels for row in level}
+    if kind == "put":
+        level = outer if name is None else rows[name][1][5]
+        level.insert(given[0], thawed([given[1]])[0])
+    elif kind == "take":
+        level, row = rows[name]
+        level.remove(row)
+        kept = [chain[-1][0] for chain in with_chains(outer)]
+        for level, row in rows.values():
+            row[4] = row[4] if row[4] in kept else None
+    else:
+        rows[name][1][["name", "box", "word", "rank", "head"].index(kind)] = given[0]
+    return frozen(outer)

@@ -68,6 +68,22 @@ DEEP_NAMES = ["a", "ab", "abc", "abcd", "abcde", "abcdef", "b", "ac", "abcdefgh"
               "c", "ca", "cb", "cba", "cc"]
 
 
+def in_a_row(*names):
+    """Parts with these names, from left to right."""
+    return tuple(part(name, box=(3 * at, 0, 2, 2)) for at, name in enumerate(names))
+
+
+# Right leads from a to c, left from there to b, which is nearer; nothing leads to a.
+ONE_WAY = (part("a", box=(0, 0, 10, 2)), part("b", box=(5, 0, 6, 4)), part("c", box=(20, 0, 1, 1)))
+
+
+def with_level(deep, level):
+    """A sheet in which this level stands so deep."""
+    for name in ["zw", "zx", "zy", "zz"][:deep - 1]:
+        level = (part(name, *level),)
+    return level
+
+
 def chance_box(chance, room):
     """A box of small numbers, so that many touch, have room in common or lie as near."""
     return (chance.randint(-room, room), chance.randint(-room, room),
@@ -128,3 +144,41 @@ def with_words(sheet, words):
     """The sheet, each part that stands in the dict with this word."""
     return tuple((name, box, words.get(name, word), rank, head, with_words(parts, words))
                  for name, box, word, rank, head, parts in sheet)
+
+
+def renamed(sheet, ending):
+    """The sheet with other names, for parts and heads alike."""
+    return tuple((name + ending, box, word, rank, head and head + ending, renamed(parts, ending))
+                 for name, box, word, rank, head, parts in sheet)
+
+
+def chance_put(chance, sheet, name):
+    """A deed that puts one to three parts, nested or not, directly within the part of this name."""
+    chains = {chain[-1][0]: chain for chain in with_chains(sheet)}
+    fresh = [other for other in many_names(60) if other not in chains]
+    inner = [part(other, box=chance_box(chance, 6)) for other in fresh[1:chance.choice([1, 1, 2, 3])]]
+    put = part(fresh[0], *inner, box=chance_box(chance, 6), rank=chance.choice([0, 0, 1]),
+               word=chance.choice(["free", "free", "shut", "hidden"]),
+               head=chance.choice([None, None, *chains]))
+    level = sheet if name is None else chains[name][-1][5]
+    return ("put", name, chance.randint(0, len(level)), put)
+
+
+def chance_deed(chance, sheet):
+    """A deed of any kind; most of them can be done, those with heads and those that put not always."""
+    names = [chain[-1][0] for chain in with_chains(sheet)]
+    if not names:
+        return chance_put(chance, sheet, None)
+    name = chance.choice(names)
+    kind = chance.choice(["word", "word", "word", "box", "rank", "head", "put", "put", "take"])
+    if kind == "word":
+        return (kind, name, chance.choice(["free", "free", "shut", "hidden"]))
+    if kind == "box":
+        return (kind, name, chance_box(chance, 6))
+    if kind == "rank":
+        return (kind, name, chance.choice([0, 1, 2, GREATEST]))
+    if kind == "head":
+        return (kind, name, chance.choice([None, *names]))
+    if kind == "put":
+        return chance_put(chance, sheet, chance.choice([None, None, *names]))
+    return (kind, name)

@@ -9,17 +9,8 @@ from focuswalk.rows import parted
 from focuswalk.views import open_parts
 from tests.asking import Asking
 from tests.plain import SIDES, WAYS, plain_far, plain_goes
-from tests.samples import (DEEP, DEEP_NAMES, branching, chance_box, chance_sheets, many_names, part,
-                           with_chains, with_words)
-
-
-def in_a_row(*names):
-    """Parts with these names, from left to right."""
-    return tuple(part(name, box=(3 * at, 0, 2, 2)) for at, name in enumerate(names))
-
-
-# Right leads from a to c, left from there to b, which is nearer; nothing leads to a.
-ONE_WAY = (part("a", box=(0, 0, 10, 2)), part("b", box=(5, 0, 6, 4)), part("c", box=(20, 0, 1, 1)))
+from tests.samples import (DEEP, DEEP_NAMES, ONE_WAY, branching, chance_box, chance_sheets, in_a_row,
+                           many_names, part, with_chains, with_words)
 
 
 class Layers(Asking):

@@ -9,12 +9,7 @@ from focuswalk.views import open_parts
 from focuswalk.ways import goes
 from tests.asking import Asking
 from tests.plain import WAYS, plain_far, plain_goes
-from tests.samples import DEEP, chance_box, chance_sheets, many_names, part, with_words
-
-
-def in_a_row(*names):
-    """Parts with these names, from left to right."""
-    return tuple(part(name, box=(3 * at, 0, 2, 2)) for at, name in enumerate(names))
+from tests.samples import DEEP, chance_box, chance_sheets, in_a_row, many_names, part, with_words
 
 
 class Rows(Asking):

@@ -9,7 +9,7 @@ from focuswalk.ways import goes, into, nearest, opposite, out_of
 from tests.asking import Asking
 from tests.plain import KEYS, SIDES, plain_goes
 from tests.samples import (DEEP, DEEP_NAMES, GREATEST, buried, chance_box, chance_sheets, many_names,
-                           part, with_words)
+                           part, with_level, with_words)
 
 OTHER_TEXTS = ("", "Up", "UP", "up ", " up", "u", "updown", "up\n", "north", "above", "-", "x" * 8000)
 
@@ -116,13 +116,6 @@ class Nearest(Asking):
     def test_ranks_and_heads_dont_count(self):
         sheet = (part("a"), part("b", box=(9, 0, 1, 1), rank=1, head="c"), part("c", box=(5, 0, 1, 1)))
         self.assertEqual(nearest(sheet, "a", "right"), "c")
-
-
-def with_level(deep, level):
-    """A sheet in which this level stands so deep."""
-    for name in ["zw", "zx", "zy", "zz"][:deep - 1]:
-        level = (part(name, *level),)
-    return level
 
 
 class IntoAndOut(Asking):
