@@ -47,8 +47,7 @@ def opposite(way):
 
 def goes(sheet, name, key):
     """Tell where any of the eight keys leads from an open part, perhaps to None."""
-    if key not in KEYS:
-        raise NoKey("the key is none of the eight")
+    refuse_no_key(key)
     if key == "on":
         return on_from(sheet, name)
     if key == "back":
@@ -58,3 +57,9 @@ def goes(sheet, name, key):
     if key == "out":
         return out_of(sheet, name)
     return nearest(sheet, name, key)
+
+
+def refuse_no_key(key):
+    """Refuse a text that is none of the eight keys."""
+    if key not in KEYS:
+        raise NoKey("the key is none of the eight")

@@ -100,3 +100,48 @@ def plain_done(sheet, deed):
     else:
         rows[name][1][["name", "box", "word", "rank", "head"].index(kind)] = given[0]
     return frozen(outer)
+
+
+def plain_stand(sheet, other, name):
+    """Where somebody stands behind a change, by going on step by step."""
+    before, after = plain_goes(sheet), plain_goes(other)
+    step = name
+    for turn in range(len(before)):
+        if step in after:
+            return step
+        step = step and before[step]["on"]
+    ranks = {one: chain[-1][3] for one, chain in plain_open(other).items()}
+    return min(after, key=lambda one: (ranks[one] == 0, ranks[one]), default=None)
+
+
+class PlainWalker:
+    """A walker that keeps all that was done to it, and tells its stand by a table made each time."""
+
+    def __init__(self, sheet):
+        self.sheet = sheet
+        self.steps = [(None, plain_stand(sheet, sheet, None))]
+        self.outs = []
+
+    def stand(self):
+        return self.steps[-1][1]
+
+    def press(self, key):
+        here = self.stand()
+        if here is None:
+            return
+        leads = plain_goes(self.sheet)
+        to = leads[here][key]
+        if key == "into":
+            last = [inner for inner, outer in self.outs if outer == here][-1:]
+            to = last[0] if last and last[0] in leads and leads[last[0]]["out"] == here else to
+        if key == "out" and to is not None:
+            self.outs.append((here, to))
+        self.steps.append((here, here if to is None else to))
+
+    def do(self, deed):
+        other = plain_done(self.sheet, deed)
+        self.steps.append((self.stand(), plain_stand(self.sheet, other, self.stand())))
+        self.sheet = other
+
+    def told(self):
+        return [to for here, to in self.steps if to is not None and to != here]

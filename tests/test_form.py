@@ -102,6 +102,24 @@ class Form(unittest.TestCase):
                 self.assertTrue(not name.startswith("_") or name in DOUBLE_METHODS, f"{file} {name}")
             self.assertEqual(sum(bound_names(tree).count(name) for name in classes), len(classes))
 
+    def test_methods_and_attributes(self):
+        methods = {part.name for file, node in nodes(ast.ClassDef) for part in node.body
+                   if isinstance(part, ast.FunctionDef)}
+        assigned = {node.attr for file, node in nodes(ast.Attribute) if isinstance(node.ctx, ast.Store)}
+        self.assertEqual(methods & assigned, set())
+        called = {id(node.func) for file, node in nodes(ast.Call)}
+        for file, node in nodes(ast.Attribute):
+            if isinstance(node.ctx, ast.Load) and id(node) not in called:
+                self.assertIn(node.attr, assigned, f"{file} {node.lineno}")
+
+    def test_no_two_files_import_from_each_other(self):
+        behind = {file: {part.module.split(".")[1] + ".py" for part in tree.body if isinstance(part, ast.ImportFrom)}
+                  for file, tree in TREES.items()}
+        while behind:
+            free = [file for file, names in behind.items() if not names & set(behind)]
+            self.assertNotEqual(free, [], behind)
+            behind = {file: names for file, names in behind.items() if file not in free}
+
     def test_is_only_with_none_and_truths(self):
         for file, node in nodes(ast.Compare):
             for sign, other in zip(node.ops, node.comparators):
